@@ -1,0 +1,1 @@
+"""Mustoccur: patterns that every long text must contain."""
