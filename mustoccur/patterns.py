@@ -1,6 +1,6 @@
 """Letters, texts, variables, patterns and values, and the checks of arguments that other modules share."""
 
-from mustoccur.errors import InvalidPattern, InvalidText, InvalidValues, InvalidVariables, TooLarge
+from mustoccur.errors import InvalidCount, InvalidPattern, InvalidText, InvalidValues, InvalidVariables, TooLarge
 
 VARIABLES = "abcdefghijklmnopqrstuvwxyz"
 LONGEST_PATTERN = 40
@@ -62,6 +62,12 @@ def check_variable_set(value):
     """Raise InvalidVariables if the value is not a variable set."""
     if not is_variable_set(value):
         raise InvalidVariables(value)
+
+
+def check_count(value, least, most):
+    """Raise InvalidCount if the value is not an integer from least to most."""
+    if not is_plain_integer(value) or value < least or value > most:
+        raise InvalidCount(value)
 
 
 def variables(pattern):
