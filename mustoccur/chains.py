@@ -1,7 +1,7 @@
 """Chains of unavoidable patterns, and what proves that a pattern is avoidable."""
 
 from mustoccur.errors import NotFree
-from mustoccur.graph import check_members, free_sets, is_free
+from mustoccur.graph import free_sets, is_free
 from mustoccur.patterns import check_pattern, delete, is_pattern, is_variable_set
 
 
@@ -89,8 +89,6 @@ def locked_patterns(pattern):
 
 def delete_free(pattern, letters):
     """The pattern without a free set."""
-    check_pattern(pattern)
-    check_members(pattern, letters)
     if not is_free(pattern, letters):
         raise NotFree(letters)
     return delete(pattern, letters)

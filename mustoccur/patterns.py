@@ -52,6 +52,12 @@ def check_pattern(value):
         raise InvalidPattern(value)
 
 
+def check_filled_pattern(value):
+    """Raise InvalidPattern if the value is not a pattern, or is the empty one."""
+    if not is_pattern(value) or value == "":
+        raise InvalidPattern(value)
+
+
 def check_text(value):
     """Raise InvalidText if the value is not a text."""
     if not is_text(value):
