@@ -5,16 +5,19 @@ from mustoccur.graph import free_sets, is_free
 from mustoccur.patterns import check_pattern, delete, is_pattern, is_variable_set
 
 
-def shortest_ways(pattern):
-    """A dict: for each pattern that is reached, the fewest free sets that lead to it, one after the other."""
-    ways = {pattern: []}
-    queue = [pattern]
+def shortest_ways(whole, list_free, remove):
+    """A dict: for each pattern that is reached, the fewest free sets that lead to it, one after the other.
+
+    What whole is decides list_free, which gives its non-empty free sets, and remove, which deletes one of them.
+    """
+    ways = {whole: []}
+    queue = [whole]
     at = 0
     while at < len(queue):
         here = queue[at]
         at += 1
-        for letters in free_sets(here):
-            rest = delete(here, letters)
+        for letters in list_free(here):
+            rest = remove(here, letters)
             if rest not in ways:
                 ways[rest] = ways[here] + [letters]
                 queue.append(rest)
@@ -24,7 +27,7 @@ def shortest_ways(pattern):
 def chain(pattern):
     """A chain of the pattern with the fewest steps, or None if the pattern is avoidable."""
     check_pattern(pattern)
-    return shortest_ways(pattern).get("")
+    return shortest_ways(pattern, free_sets, delete).get("")
 
 
 def is_step(pattern, value):
@@ -61,7 +64,7 @@ def is_locked(pattern):
 def reached(pattern):
     """All patterns that are reached from the pattern, ascending."""
     check_pattern(pattern)
-    return sorted(shortest_ways(pattern))
+    return sorted(shortest_ways(pattern, free_sets, delete))
 
 
 def is_refutation(pattern, value):

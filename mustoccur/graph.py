@@ -19,14 +19,18 @@ def merged(parts, first, second):
     return apart + [(lefts, rights)]
 
 
+def linked_parts(names, edges):
+    """The components, ascending, of the graph that has the nodes of these names and these edges."""
+    parts = [(name, "") for name in names] + [("", name) for name in names]
+    for first, second in edges:
+        parts = merged(parts, first, second)
+    return sorted(parts)
+
+
 def components(pattern):
     """The pairs (variables of the left nodes, variables of the right nodes) of the components, ascending."""
     check_pattern(pattern)
-    names = sorted(set(pattern))
-    parts = [(name, "") for name in names] + [("", name) for name in names]
-    for first, second in links(pattern):
-        parts = merged(parts, first, second)
-    return sorted(parts)
+    return linked_parts(sorted(set(pattern)), links(pattern))
 
 
 def touches(names, letters):
@@ -53,14 +57,19 @@ def is_free(pattern, letters):
     return keeps_sides(components(pattern), letters)
 
 
+def free_among(names, parts):
+    """All non-empty sets of these names, given ascending, that are free in a graph with these components, ascending."""
+    found = [""]
+    # Each subset of a free set is free, so a set that is not free is never made longer.
+    for name in names:
+        found = found + [letters + name for letters in found if keeps_sides(parts, letters + name)]
+    return sorted(found[1:])
+
+
 def free_sets(pattern):
     """All non-empty free sets, ascending."""
     parts = components(pattern)
-    found = [""]
-    # Each subset of a free set is free, so a set that is not free is never made longer.
-    for name in sorted(set(pattern)):
-        found = found + [letters + name for letters in found if keeps_sides(parts, letters + name)]
-    return sorted(found[1:])
+    return free_among(sorted(set(pattern)), parts)
 
 
 def is_within(letters, others):

@@ -14,6 +14,17 @@ def check_interface(case, module, listed):
             case.assertEqual(function.__module__, module.__name__)
 
 
+def check_class(case, module, name, listed):
+    """The module itself defines this class, and the class itself these methods, with these parameters after self."""
+    kind = getattr(module, name)
+    case.assertTrue(inspect.isclass(kind))
+    case.assertEqual(kind.__module__, module.__name__)
+    for method, parameters in listed.items():
+        with case.subTest(name=name, method=method):
+            case.assertTrue(inspect.isfunction(vars(kind)[method]))
+            case.assertEqual(list(inspect.signature(vars(kind)[method]).parameters)[1:], parameters)
+
+
 def check_refused(case, error, value, function, *given, **named):
     """The call raises this error, and its first attribute is the very value."""
     with case.subTest(function=function.__name__, value=str(value)[:60], given=str(given)[:80]):

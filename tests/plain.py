@@ -46,10 +46,10 @@ def without(pattern, letters):
     return "".join(name for name in pattern if name not in letters)
 
 
-def plain_components(pattern):
-    """The components as sets of nodes ("left", name) and ("right", name)."""
-    left = {(side, name) for name in pattern for side in ("left", "right")}
-    edges = {(("left", first), ("right", second)) for first, second in zip(pattern, pattern[1:])}
+def plain_components(*words):
+    """The components of the graph of all words as sets of nodes ("left", name) and ("right", name)."""
+    left = {(side, name) for word in words for name in word for side in ("left", "right")}
+    edges = {(("left", first), ("right", second)) for word in words for first, second in zip(word, word[1:])}
     found = []
     while left:
         part = {min(left)}

@@ -130,7 +130,7 @@ class Names(unittest.TestCase):
     def test_plain_names(self):
         for name, tree in trees():
             for bound in bound_names(tree):
-                if bound != "__init__":
+                if bound not in ("__init__", "__eq__", "__len__"):
                     self.assertRegex(bound, r"^[A-Za-z][A-Za-z0-9_]*$", name)
                 self.assertNotIn(bound, dir(builtins), name)
                 self.assertNotIn(bound, BARRED_NAMES, name)
