@@ -3,6 +3,8 @@
 import copy
 import inspect
 
+from mustoccur.errors import ParseError
+
 
 def check_interface(case, module, listed):
     """The module itself defines these functions, with these parameters."""
@@ -32,6 +34,15 @@ def check_refused(case, error, value, function, *given, **named):
             function(*given, **named)
         case.assertIs(type(caught.exception), error)
         case.assertIs(list(vars(caught.exception).values())[0], value)
+
+
+def offset_of(parse, value):
+    """The offset of the ParseError that is raised, or None."""
+    try:
+        parse(value)
+    except ParseError as error:
+        return error.offset
+    return None
 
 
 def spoil(thing):
